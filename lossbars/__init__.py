@@ -1,0 +1,1 @@
+"""Lossbars: what can come about when anything may be lost."""
