@@ -95,6 +95,11 @@ def least(sort, some):
     return sorted(rest, key=lambda v: key(sort, v))
 
 
+def least_values_of(sort):
+    """The values that hold no other one: all of them stand among the small ones."""
+    return least(sort, universe(sort, 0, 0))
+
+
 def universe(sort, number, length):
     """All values with numbers to number and at most length elements, one less within other lanes and heaps."""
     word = sort[0]
@@ -107,7 +112,7 @@ def universe(sort, number, length):
         return [(v, w) for v in universe(sort[1], number, length) for w in seconds]
     if word == "either":
         return [(word, v) for word in ("left", "right") for v in universe(side(sort, word), number, length)]
-    inner = sorted(universe(sort[1], number, length - 1), key=lambda v: key(sort[1], v))
+    inner = [] if length < 1 else sorted(universe(sort[1], number, length - 1), key=lambda v: key(sort[1], v))
     if word == "lane":
         return [row for many in range(length + 1) for row in itertools.product(inner, repeat=many)]
     return [row for many in range(length + 1) for row in itertools.combinations_with_replacement(inner, many)]

@@ -1,0 +1,127 @@
+"""What two limits have in common."""
+
+from lossbars.forms import side_sort
+from lossbars.insides import is_once, limits_in_order, limits_of, within
+from lossbars.shapes import check_limit
+from lossbars.sorts import check_sort
+from lossbars.tables import PieceTable, topmost
+
+
+def met_limits(sort, one, two):
+    """The list of limits that tells what is inside both."""
+    check_sort(sort)
+    check_limit(sort, one)
+    check_limit(sort, two)
+    return met(sort, one, two)
+
+
+def met(sort, one, two):
+    """As met_limits, for limits that are known to be right."""
+    if within(sort, one, two):
+        return [one]
+    if within(sort, two, one):
+        return [two]
+    if sort[0] == "both":
+        firsts, seconds = met(sort[1], one[1], two[1]), met(sort[2], one[2], two[2])
+        return [("pair", first, second) for first in firsts for second in seconds]
+    if sort[0] == "either" and one[0] == two[0]:
+        return [(one[0], limit) for limit in met(side_sort(sort, one[0]), one[1], two[1])]
+    if sort[0] == "lane":
+        return _rows_met(sort, one, two)
+    if sort[0] == "heap":
+        return _bags_met(sort, one, two)
+    return []
+
+
+def met_lists(sort, ones, twos):
+    """The list of limits of what lies inside one of each of two lists."""
+    return topmost(sort, [limit for one in ones for two in twos for limit in met(sort, one, two)])
+
+
+def _rows_met(sort, one, two):
+    """Cell k of the row for i is what the rows behind piece i and behind piece k have; the rows come from the end."""
+    table = PieceTable(sort)
+    pieces, others = table.coded(one), table.coded(two)
+    below = [[()] for _ in range(len(others) + 1)]
+    for i in reversed(range(len(pieces))):
+        row = [[()]]
+        for k in reversed(range(len(others))):
+            row = [_cell(sort[1], table, pieces[i:], others[k:], (below[k], row[0], below[k + 1]))] + row
+        below = row
+    return limits_in_order(sort, [table.told(code) for code in below[0]])
+
+
+def _cell(inner, table, pieces, others, rests):
+    """What two coded rows have, by what they have without the first piece of the one, of the other, of both."""
+    if table.code_lies(pieces, others):
+        return [pieces]
+    if table.code_lies(others, pieces):
+        return [others]
+    less, fewer, _ = rests
+    one, two = table.piece(pieces[0]), table.piece(others[0])
+    shared = met_lists(inner, limits_of(one), limits_of(two))
+    if is_once(one) or is_once(two):
+        heads = [table.number_of(("once", limit)) for limit in shared]
+        behind = _behind_once(one, two, rests)
+    else:
+        heads = [table.number_of(("often", tuple(shared)))] if shared else []
+        behind = less + fewer
+    found = [table.put_ahead(head, row) for head in heads for row in behind]
+    return table.top_codes(found + less + fewer)
+
+
+def _behind_once(one, two, rests):
+    """What may stand behind one element that two pieces take: an often is there still, a once is not."""
+    less, fewer, least = rests
+    if not is_once(one):
+        return fewer
+    return least if is_once(two) else less
+
+
+def _bags_met(sort, one, two):
+    """Onces of the one go alone or with one that is left of the other's, then what is left goes alone.
+
+    What is made so far is a rising tuple of numbers of onces; what is left are places of onces of the other."""
+    inner, table = sort[1], PieceTable(sort)
+    often = table.number_of(("often", tuple(met_lists(inner, one[2], two[2]))))
+    found = [((), tuple(range(len(two[1]))))]
+    for limit in one[1]:
+        alone = _alone(inner, table, limit, two[2], often)
+        pairs = [_onces(table, met(inner, limit, other), often) for other in two[1]]
+        longer = {}
+        for made, left in found:
+            for came, rest in _choices(two[1], alone, pairs, left):
+                longer[(tuple(sorted(made + came)), rest)] = True
+        found = list(longer)
+    rests = [_alone(inner, table, other, one[2], often) for other in two[1]]
+    codes = [(row, often) for made, left in found for row in _finished(made, left, rests)]
+    return limits_in_order(sort, [table.told(code) for code in table.top_codes(codes)])
+
+
+def _alone(inner, table, limit, others, often):
+    """What a once may bring by the other's often, or nothing if there is no such."""
+    found = _onces(table, met_lists(inner, [limit], others), often)
+    return found if found else [()]
+
+
+def _onces(table, limits, often):
+    """The onces, coded, of those limits that tell more than often does."""
+    numbers = [table.number_of(("once", limit)) for limit in limits]
+    return [(number,) for number in numbers if not table.lies(number, often)]
+
+
+def _choices(others, alone, pairs, left):
+    """What a once may bring, each with what is then left of others; of equal ones that are left the first is taken."""
+    found = [(came, left) for came in alone]
+    for place, k in enumerate(left):
+        if others[k] not in [others[j] for j in left[:place]]:
+            found.extend([(came, left[:place] + left[place + 1:]) for came in pairs[k]])
+    return found
+
+
+def _finished(made, left, rests):
+    """What is made when each once that is left brings what it may."""
+    found = [made]
+    for k in left:
+        found = [tuple(sorted(row + came)) for row in found for came in rests[k]]
+    return found
