@@ -44,7 +44,7 @@ def _missed_by_all(sort, limits):
 
 
 def lowered(sort, v):
-    """Values that v holds: each other one that it holds is held by one of them."""
+    """Values that v holds, heaps in any order: each other one that v holds is held by one of them."""
     if sort[0] == "mark":
         return []
     if sort[0] == "count":
@@ -58,49 +58,42 @@ def lowered(sort, v):
         lesser = lowered(sort[1], part)
         stands = [(other,) for other in lesser] if lesser else [()]
         found.extend([v[:place] + came + v[place + 1:] for came in stands])
-    return found if sort[0] == "lane" else [as_heap(sort[1], made) for made in found]
+    return found
 
 
 def _lanes_missed(sort, pieces, most):
     """Lanes whose each element leads on through the pieces, the last one beyond them, and none could do so lowered."""
-    jumps = _jumps(sort[1], pieces)
+    steps = _steps(sort[1], pieces)
     found = []
     begun = [((), 0)]
     while begun:
         lane, start = begun.pop()
-        for place, part in _next_parts(sort[1], pieces, jumps, start):
+        for part in steps[start]:
             longer = lane + (part,)
             stand = _stand(sort[1], pieces, longer)
             if not _is_tight(sort, pieces, longer, stand):
                 continue
-            if place < len(pieces):
-                begun.append((longer, stand))
-            else:
+            if stand > len(pieces):
                 found.append(longer)
+            else:
+                begun.append((longer, stand))
         if most is not None and len(found) > most:
             return found
     return found
 
 
-def _jumps(inner, pieces):
-    """Item k of row i: the least values outside the pieces i to i + k - 1."""
+def _steps(inner, pieces):
+    """Row i: the least values outside none, one, two and so on of the pieces from i on; no other one may lead on."""
     missed = [_missed_by_all(inner, limits_of(piece)) for piece in pieces]
     found = []
     for start in range(len(pieces) + 1):
-        row = [lowest(inner)]
+        parts = lowest(inner)
+        kept = {part: True for part in parts}
         for others in missed[start:]:
-            row.append(joint_list(inner, row[-1], others))
-        found.append(row)
-    return found
-
-
-def _next_parts(inner, pieces, jumps, start):
-    """The elements that lead on from a piece, each with the piece that takes it."""
-    found = [(len(pieces), part) for part in jumps[start][-1]]
-    for k, parts in enumerate(jumps[start][:-1]):
-        piece = pieces[start + k]
-        if is_once(piece) or k > 0:
-            found.extend([(start + k, part) for part in parts if _takes(inner, piece, part)])
+            parts = joint_list(inner, parts, others)
+            for part in parts:
+                kept[part] = True
+        found.append(list(kept))
     return found
 
 

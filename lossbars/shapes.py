@@ -13,8 +13,6 @@ def limit_fault(sort, data):
     if not _own_form(sort, data):
         return ()
     for path, inner, part in _parts(sort, data):
-        if part is None:
-            return path
         fault = limit_fault(inner, part)
         if fault is not None:
             return path + fault
@@ -41,7 +39,7 @@ def _own_form(sort, data):
 
 
 def _parts(sort, data):
-    """What stands for limits directly within one, with paths and sorts, in order; None for a piece that is none."""
+    """What stands for limits directly within one, with paths and sorts, in order."""
     if sort[0] == "both":
         return [((1,), sort[1], data[1]), ((2,), sort[2], data[2])]
     if sort[0] == "either":
@@ -59,6 +57,7 @@ def _in_piece(piece):
             return [((1,), piece[1])]
         if piece[0] == "often" and isinstance(piece[1], tuple):
             return [((1, k), part) for k, part in enumerate(piece[1])]
+    # What is no piece is no limit either, so it is told as one, at its own place.
     return [((), None)]
 
 

@@ -5,6 +5,8 @@ from lossbars.insides import is_once, limits_in_order, piece_within, within, wit
 
 # Up to so many limits it is quicker to look at them as they are.
 FEW = 4
+# From so many codes on it is quicker to look at bits first.
+MANY = 60
 
 
 class PieceTable:
@@ -97,17 +99,39 @@ class PieceTable:
     def top_codes(self, codes):
         """Those of some codes that lie within no other one, each once."""
         kept = []
-        for code in list({code: True for code in codes}):
-            if not self._lies_in_one(code, kept):
-                kept = [other for other in kept if not self.code_lies(other, code)]
-                kept.append(code)
-        return kept
+        for own, taken, code in self._marked(list({code: True for code in codes})):
+            if not self._lies_in_one(own, code, kept):
+                kept = [other for other in kept if other[0] & ~taken or not self.code_lies(other[2], code)]
+                kept.append((own, taken, code))
+        return [code for _, _, code in kept]
 
-    def _lies_in_one(self, code, others):
+    def _lies_in_one(self, own, code, others):
         for other in others:
-            if self.code_lies(code, other):
+            if not own & ~other[1] and self.code_lies(code, other[2]):
                 return True
         return False
+
+    def _marked(self, codes):
+        """Codes behind two numbers whose bits tell pieces: its own ones, and all that lie within one of these.
+
+        What lies within another one has no piece of its own that the other one does not take, so most of many codes
+        need not be gone through piece by piece. For few codes the bits are not worth their making."""
+        if len(codes) < MANY:
+            return [(0, 0, code) for code in codes]
+        numbers = sorted({number for code in codes for number in self._numbers_in(code)})
+        within_each = {}
+        for other in numbers:
+            within_each[other] = sum([1 << number for number in numbers if self.lies(number, other)])
+        found = []
+        for code in codes:
+            own, taken = 0, 0
+            for number in self._numbers_in(code):
+                own, taken = own | 1 << number, taken | within_each[number]
+            found.append((own, taken, code))
+        return found
+
+    def _numbers_in(self, code):
+        return code if self._sort[0] == "lane" else code[0] + (code[1],)
 
 
 def topmost(sort, limits):

@@ -114,6 +114,10 @@ class Checks(unittest.TestCase):
         self.wrong(COUNT, then(then(ADD, ADD), ("add", 0)), (2, 1))
         self.wrong(COUNT, then(("or", ADD), ("add", 0)), (1,))
         self.wrong(PAIR, either_way(("first", then(ADD, TURN)), ("second", ADD)), (1, 1, 2))
+        self.wrong(PAIR, either_way(("first", ADD), ("second", ADD)), (2, 1))
+        self.wrong(PAIR, ("second", then(TURN, ("need", 5))), (1, 2, 1))
+        self.wrong(EITHER, ("right", ("send", 5)), (1, 1))
+        self.wrong(EITHER, ("left", then(ADD, ("send", "a"))), (1, 2))
         self.wrong(("lane", HEAP), ("any", ("any", ("or", STAY, ("take", 0)))), (1, 1, 2, 1))
         self.wrong(EITHER, ("left", ("right", STAY)), (1,))
 

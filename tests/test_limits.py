@@ -220,6 +220,17 @@ class Order(unittest.TestCase):
                 [(1, 9), (1, 8), (5, 5), (4, 5), (5,), (9,), (), (1, 1, 5), (3, 3, 3)]]
         self.assertEqual(untouched(limit_list, bags, some), [some[7], some[0], some[8], some[2]])
 
+    def test_very_long_lists(self):
+        for sort, form in [(("lane", COUNT), lambda numbers, most: row(*[once(to(k)) for k in numbers], often(to(most)))),
+                           (("heap", COUNT), lambda numbers, most: bag([to(k) for k in numbers], [to(most)]))]:
+            draw = random.Random(5)
+            some = [shaped(sort, form([draw.randint(0, 9) for _ in range(draw.randint(0, 4))], draw.randint(0, 2)))
+                    for _ in range(150)]
+            self.assertGreater(len(set(some)), 60)
+            self.assertEqual(untouched(limit_list, sort, some), ordered_limits(sort, [
+                limit for limit in dict.fromkeys(some)
+                if not any(other != limit and lies_within(sort, limit, other) for other in some)]))
+
 
 class Within(unittest.TestCase):
 

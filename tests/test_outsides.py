@@ -163,6 +163,28 @@ class Outside(unittest.TestCase):
         self.assertEqual(kept(TooMany, outside, EITHER, [("left", 1)], limits=2), {})
         self.assertEqual(outside(EITHER, [("left", 1)], limits=3), [("left", to(0)), ("right", A), ("right", B)])
 
+    def test_what_one_limit_brings_may_pass_the_cap_alone(self):
+        numbers, some = ("lane", COUNT), [(3, 0), (1, 1, 3), (0, 2)]
+        self.assertEqual([len(outside(numbers, some[:many])) for many in range(4)], [1, 1, 2, 2])
+        # One of the two limits brings three, and one of these lies within what the other one brings.
+        self.assertEqual(kept(TooMany, outside, numbers, some, limits=2), {})
+        self.assertEqual(outside(numbers, some, limits=3), outside(numbers, some))
+
+    def test_random_caps_at_their_edges(self):
+        for seed in range(80):
+            draw = random.Random(seed)
+            sort = some_sort(draw, 4, 2)
+            some = [some_value(draw, sort, 3, 2) for _ in range(draw.randint(1, 3))]
+            found, most = everything(sort), 0
+            for v in some:
+                each = [[limit for other in beyond(sort, v) for limit in met_limits(sort, one, other)] for one in found]
+                each = [limit_list(sort, brought) for brought in each]
+                found = limit_list(sort, [limit for brought in each for limit in brought])
+                most = max([most, len(found)] + [len(brought) for brought in each])
+            self.assertEqual(outside(sort, some, limits=max(1, most)), found)
+            if most > 1:
+                self.assertEqual(kept(TooMany, outside, sort, some, limits=most - 1), {})
+
     def test_60_limits_and_61(self):
         some = [(k + 1, 59 - k) for k in range(59)]
         self.assertEqual(len(untouched(outside, PAIR, some)), 60)
@@ -238,6 +260,45 @@ class LeastOutside(unittest.TestCase):
         self.assertEqual(len(least_outside(three, [pair(to(1), pair(to(1), to(1)))], values=3)), 3)
         self.assertEqual(kept(TooMany, least_outside, three, [pair(to(1), pair(to(1), to(1)))], values=2), {})
         self.assertEqual(least_outside(COUNT, [ALL, to(99)], values=1), [])
+        # What is outside the second limit alone has two values, though one is enough for both.
+        self.assertEqual(kept(TooMany, least_outside, PAIR, [pair(to(4), ALL), pair(to(3), to(5))], values=1), {})
+        self.assertEqual(least_outside(PAIR, [pair(to(4), ALL), pair(to(3), to(5))], values=2), [(5, 0)])
+
+    def test_60_values_outside_one_limit_and_61(self):
+        sort = ("either", ("heap", PAIR), ABC)
+        for many in (57, 58):
+            steps = bag([], [pair(to(k), to(many - 2 - k)) for k in range(many - 1)])
+            limits = [("left", bag([], [pair(ALL, ALL)])), ("left", steps)]
+            if many == 57:
+                self.assertEqual(least_outside(sort, limits), [("right", "c"), ("right", "a"), ("right", "b")])
+                self.assertEqual(len(least_outside(sort, limits[1:])), 60)
+            else:
+                self.assertEqual(kept(TooMany, least_outside, sort, limits), {})
+
+    def test_random_caps_at_their_edges(self):
+        for seed in range(200):
+            draw = random.Random(seed)
+            sort = some_sort(draw, 4, 2)
+            limits = [shaped(sort, some_limit(draw, sort, 3, 3)) for _ in range(draw.randint(1, 2))]
+            # All that lies on the way: what is outside each one alone, and outside the first ones together.
+            found = [least_outside(sort, [limit]) for limit in limits] + [least_outside(sort, limits)]
+            most = max(len(row_found) for row_found in found)
+            self.assertEqual(least_outside(sort, limits, values=max(1, most)), found[-1])
+            if most > 1:
+                self.assertEqual(kept(TooMany, least_outside, sort, limits, values=most - 1), {})
+
+    def test_rows_and_bags_with_the_cap_at_its_edge(self):
+        # With too high a number of values outside a limit the cap would be passed; with too low a one it would not.
+        for seed in range(150):
+            draw = random.Random(seed)
+            inner = draw.choice([COUNT, PAIR, EITHER, ("both", AB, COUNT), ("lane", COUNT), ("heap", COUNT)])
+            sort = (draw.choice(["lane", "heap"]), inner)
+            limit = shaped(sort, some_limit(draw, sort, 3, 3))
+            found = least_outside(sort, [limit])
+            self.assertEqual(outside(sort, found), [limit])
+            self.assertEqual(least_outside(sort, [limit], values=max(1, len(found))), found)
+            if len(found) > 1:
+                self.assertEqual(kept(TooMany, least_outside, sort, [limit], values=len(found) - 1), {})
 
     def test_60_values_and_61(self):
         limits = [pair(to(k), to(58 - k)) for k in range(59)]
