@@ -38,9 +38,30 @@ def above(sort, v, u):
     if v == u:
         return True
     if sort[0] == "lane":
+        v, u = _without_same_ends(v, u)
         return lane_places(sort[1], v, u) is not None
+    return _heap_above(sort[1], v, u)
+
+
+def _without_same_ends(v, u):
+    """Two lanes without equal last elements: if one holds the other, such ones can stand at each other's place."""
+    end = 0
+    while end < len(u) and v[len(v) - 1 - end] == u[len(u) - 1 - end]:
+        end += 1
+    return v[:len(v) - end], u[:len(u) - end]
+
+
+def _heap_above(inner, v, u):
+    """Whether heap v holds heap u."""
+    spots, parts = list(v), []
+    for part in u:
+        # If there is a way at all, there is one by which equal ones go together.
+        if part in spots:
+            spots.remove(part)
+        else:
+            parts.append(part)
     # The greatest ones first: they have the fewest spots, so what cannot be is soon seen.
-    return matched(len(u), len(v), _fitting(sort[1], v[::-1], u[::-1]))
+    return matched(len(parts), len(spots), _fitting(inner, spots[::-1], parts[::-1]))
 
 
 def above_one(sort, v, some):

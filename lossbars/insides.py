@@ -53,6 +53,8 @@ def within(sort, one, two):
 
 def within_one(sort, limit, limits):
     """Whether a limit lies within one of some."""
+    if limit in limits:
+        return True
     for other in limits:
         if within(sort, limit, other):
             return True
@@ -95,10 +97,16 @@ def _bag_within(inner, one, two):
     for limit in one[2]:
         if not within_one(inner, limit, two[2]):
             return False
-    rest = [limit for limit in one[1] if not within_one(inner, limit, two[2])]
-    if len(rest) > len(two[1]):
+    rest, spots = [], list(two[1])
+    for limit in one[1]:
+        # If there is a way at all, there is one by which equal ones go together.
+        if limit in spots:
+            spots.remove(limit)
+        elif not within_one(inner, limit, two[2]):
+            rest.append(limit)
+    if len(rest) > len(spots):
         return False
-    return matched(len(rest), len(two[1]), lambda k, spot: within(inner, rest[k], two[1][spot]))
+    return matched(len(rest), len(spots), lambda k, spot: within(inner, rest[k], spots[spot]))
 
 
 def inside(sort, limit, v):

@@ -33,7 +33,7 @@ def untouched(call, *arguments, **caps):
     """What a call returns, behind a look at whether its arguments are as they were, and what is returned is new."""
     before = copy.deepcopy(arguments)
     found = call(*arguments, **caps)
-    if repr(arguments) != repr(before):
+    if shown(arguments) != shown(before):
         raise AssertionError(f"{before!r} became {arguments!r}")
     if isinstance(found, list):
         wanted = repr(found)
@@ -46,6 +46,15 @@ def untouched(call, *arguments, **caps):
             raise AssertionError(f"{again!r} for {wanted}")
         return again
     return found
+
+
+def shown(value):
+    """A value as a text, with what each machine in it tells."""
+    if isinstance(value, (list, tuple)):
+        return f"{value.__class__.__name__}({', '.join(shown(part) for part in value)})"
+    if isinstance(value, dict):
+        return f"dict({', '.join(shown(pair) for pair in value.items())})"
+    return shown((value.kind, value.states(), value.rules())) if hasattr(value, "rules") else repr(value)
 
 
 def side(sort, word):

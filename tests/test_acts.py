@@ -3,7 +3,8 @@
 import random
 import unittest
 
-from helpers import ODD, above, kept, key, path_of, some_sort, some_value, untouched
+from act_words import some_act, told_results
+from helpers import ODD, above, kept, path_of, some_sort, some_value, untouched
 from lossbars.acts import check_act, results
 from lossbars.errors import BadAct, BadSort, BadValue, TooMany
 from lossbars.values import is_value
@@ -221,70 +222,6 @@ class Results(unittest.TestCase):
                 asked += len(found)
                 self.assertTrue(all(any(above(sort, two, one) for two in more) for one in found))
         self.assertGreater(asked, 20)
-
-
-def some_act(draw, sort, many):
-    """An act that puts at most many others behind one another or within."""
-    words = ["stay", "need", "set"] + (["then", "or"] if many else [])
-    words += {"mark": [], "count": ["add", "take"] * 2, "lane": ["send", "receive"] * 2, "heap": ["put", "take"] * 2}.get(
-        sort[0], [])
-    if sort[0] == "mark" and len(sort[1]) > 1:
-        words += ["turn"] * 3
-    if many:
-        words += {"both": ["first", "second"] * 2, "either": ["left", "right"] * 2, "lane": ["any"] * 2,
-                  "heap": ["any"] * 2}.get(sort[0], [])
-    word = draw.choice(words)
-    if word == "stay":
-        return (word,)
-    if word in ("need", "set"):
-        return (word, some_value(draw, sort, 3, 2))
-    if word in ("then", "or"):
-        return (word, some_act(draw, sort, many - 1), some_act(draw, sort, many - 1))
-    if word == "turn":
-        return ("turn",) + tuple(draw.sample(sort[1], 2))
-    if sort[0] == "count":
-        return (word, draw.randint(1, 3))
-    if word in ("first", "left", "any"):
-        return (word, some_act(draw, sort[1], many - 1))
-    if word in ("second", "right"):
-        return (word, some_act(draw, sort[2], many - 1))
-    return (word, some_value(draw, sort[1], 3, 2))
-
-
-def told_results(sort, act, v):
-    """All results by the words of [4.2], ascending, each once."""
-    return sorted(set(came(sort, act, v)), key=lambda w: key(sort, w))
-
-
-def came(sort, act, v):
-    word = act[0]
-    if word in ("stay", "need"):
-        return [v] if word == "stay" or above(sort, v, act[1]) else []
-    if word == "set":
-        return [act[1]]
-    if word == "then":
-        return [w for u in came(sort, act[1], v) for w in came(sort, act[2], u)]
-    if word == "or":
-        return came(sort, act[1], v) + came(sort, act[2], v)
-    if word == "turn":
-        return [act[2]] if v == act[1] else []
-    if sort[0] == "count":
-        found = v + act[1] if word == "add" else v - act[1]
-        return [found] if found >= 0 else []
-    if word in ("first", "second"):
-        place = 0 if word == "first" else 1
-        return [v[:place] + (w,) + v[place + 1:] for w in came(sort[place + 1], act[1], v[place])]
-    if word in ("left", "right"):
-        inner = sort[1] if word == "left" else sort[2]
-        return [(word, w) for w in came(inner, act[1], v[1])] if v[0] == word else []
-    found = {
-        "any": lambda: [v[:k] + (w,) + v[k + 1:] for k, part in enumerate(v) for w in came(sort[1], act[1], part)],
-        "send": lambda: [v + (act[1],)],
-        "put": lambda: [v + (act[1],)],
-        "receive": lambda: [v[k + 1:] for k, part in enumerate(v) if above(sort[1], part, act[1])][:1],
-        "take": lambda: [v[:k] + v[k + 1:] for k, part in enumerate(v) if above(sort[1], part, act[1])],
-    }[word]()
-    return found if sort[0] == "lane" else [tuple(sorted(w, key=lambda part: key(sort[1], part))) for w in found]
 
 
 if __name__ == "__main__":

@@ -7,13 +7,14 @@ import unittest
 
 FOLDER = pathlib.Path(__file__).resolve().parent.parent / "lossbars"
 ALLOWED = set("""len range enumerate zip min max sum abs sorted reversed int str bool list tuple dict set isinstance ord
-repr any all divmod ValueError LookupError KeyError""".split())
+repr any all divmod property ValueError LookupError KeyError""".split())
 METHODS = set("""append clear copy count endswith extend find get index insert isalnum isalpha isdigit islower isspace
 isupper items join keys ljust lower lstrip partition pop remove replace reverse rfind rjust rpartition rsplit rstrip
 setdefault split splitlines startswith strip update upper values zfill bit_length add discard""".split())
 BARRED = set("""register mro elements open input law version_info with_traceback add_note attrgetter breakpoint compile
 dir eval exec exit gc getattr globals hasattr help id locals os quit setattr super type vars sys iter next map hash
 filter format round print""".split())
+OWN_DOUBLE = {"__init__", "__eq__", "__len__", "__contains__"}
 LIBRARY = {"math": {"gcd", "lcm", "isqrt", "comb", "perm", "factorial"}}
 
 
@@ -120,15 +121,15 @@ class Language(unittest.TestCase):
         for name, tree in trees().items():
             for word in bound(tree):
                 self.assertNotIn(word, BARRED, name)
-                self.assertFalse(word != "__init__" and hasattr(builtins, word), f"{name}: {word}")
-                self.assertFalse(word != "__init__" and word.startswith("__"), f"{name}: {word}")
+                self.assertFalse(word not in OWN_DOUBLE and hasattr(builtins, word), f"{name}: {word}")
+                self.assertFalse(word not in OWN_DOUBLE and word.startswith("__"), f"{name}: {word}")
             known = set(bound(tree)) | set(imported(tree))
             used = {node.id for node in ast.walk(tree) if isinstance(node, ast.Name)}
             self.assertLessEqual(used - known, ALLOWED, name)
 
     def test_methods(self):
         own = {node.name for tree in trees().values() for each in tree.body if isinstance(each, ast.ClassDef)
-               for node in each.body if isinstance(node, ast.FunctionDef)}
+               for node in each.body if isinstance(node, ast.FunctionDef) and not node.decorator_list}
         for name, tree in trees().items():
             called = {node.func for node in ast.walk(tree) if isinstance(node, ast.Call)}
             for node in ast.walk(tree):
