@@ -1,7 +1,8 @@
 """Machines for several tests, and paths, runs and layers by plain search."""
 
-from act_words import some_act, told_results
+from act_words import some_act, told_back, told_results
 from helpers import ODD, above, inside, key, some_limit, some_sort, some_value
+from lossbars.errors import TooMany
 from lossbars.limits import shaped
 from lossbars.machines import Machine
 from lossbars.values import is_value
@@ -20,9 +21,9 @@ NONE = ODD + [("s",), ("s", 1, 1), ["s", 1], ("t", 1), (5, 1), (None, None), ("s
               ("p", ("row", (("often", (("is", "b"), ("is", "a"))),))), TILL]
 
 
-def some_machine(draw, tuples=3, stores=2, rules=4):
-    """A machine, starts and bad positions, all small."""
-    sort = some_sort(draw, tuples, stores)
+def some_machine(draw, tuples=3, stores=2, rules=4, sort=None):
+    """A machine, of this sort if one is told, starts and bad positions, all small."""
+    sort = some_sort(draw, tuples, stores) if sort is None else sort
     states = ["p", "q", "r"][:draw.randint(1, 3)]
     names = ["one", "two", "p", "four", "five", "six"][:draw.randint(0, rules)]
     machine = Machine(sort, states, [(name, draw.choice(states), some_act(draw, sort, 2), draw.choice(states)) for name in names])
@@ -109,3 +110,61 @@ def cheapest_price(machine, prices, positions, bad, most):
                 for step, there in told_steps(machine, position) if step == name]
         layers.append(list(dict.fromkeys(came)))
     return None
+
+
+def position_back(machine, rule, position):
+    """The back of a position by a rule by the words of [6.1]."""
+    _, begin, act, end = rule
+    return [(begin, v) for v in told_back(machine.kind, act, position[1])] if position[0] == end else []
+
+
+def backs_of(machine, some, most=None):
+    """The backs of some positions by all rules; TooMany for one of more than most."""
+    found = []
+    for position in some:
+        for rule in machine.rules():
+            came = position_back(machine, rule, position)
+            if most is not None and len(came) > most:
+                raise TooMany()
+            found += came
+    return found
+
+
+def told_rounds(machine, bad, k, most=None):
+    """B(0) to B(k) by the words of [6.1]; TooMany as there."""
+    found = [least(machine, bad)]
+    if most is not None and len(found[0]) > most:
+        raise TooMany()
+    for j in range(k):
+        new = [one for one in found[j] if j == 0 or one not in found[j - 1]]
+        found.append(least(machine, found[j] + backs_of(machine, new, most)))
+        if most is not None and len(found[-1]) > most:
+            raise TooMany()
+    return found
+
+
+def outcome(call, *arguments, **caps):
+    """What a call returns, or TooMany if it raises it."""
+    try:
+        return call(*arguments, **caps)
+    except TooMany:
+        return TooMany
+
+
+def meets(machine, start, some):
+    return any(lies(machine, start, position) for position in some)
+
+
+def changed(draw, value):
+    """A paper with some part changed, left out, put in, doubled or turned about."""
+    if not isinstance(value, tuple) or not value or draw.random() < 0.2:
+        return draw.choice([None, True, 0, 1, -1, 100, "p", "one", (), [], ("p", 1), ("p", ()), {}])
+    k = draw.randrange(len(value))
+    return draw.choice([
+        lambda: value[:k] + (changed(draw, value[k]),) + value[k + 1:],
+        lambda: value[:k] + value[k + 1:],
+        lambda: value[:k] + (value[k],) + value[k:],
+        lambda: value[:k] + (draw.choice(["p", 0, (), ("p", ())]),) + value[k:],
+        lambda: value[::-1],
+        lambda: list(value),
+    ])()
