@@ -5,9 +5,24 @@ import unittest
 
 from helpers import kept, some_value, universe, untouched
 from limit_words import ALL, A, once, often, row, to
-from machine_words import COUNT, NONE, STILL, TALK, TILL, holds_some, some_machine, told_path, told_steps
+from machine_words import (
+    COUNT,
+    NONE,
+    STILL,
+    TALK,
+    TILL,
+    changed,
+    holds_some,
+    lies,
+    outcome,
+    right,
+    some_machine,
+    told_path,
+    told_steps,
+)
 from lossbars.errors import BadPosition, TooMany
 from lossbars.machines import Machine, starts_at
+from lossbars.rounds import decide
 from lossbars.runs import judge_path, judge_run, stand_of, steps
 
 RUN = (0, ("s", 0), (("up", 1), ("up", 2), ("up", 3)))
@@ -196,6 +211,38 @@ class Runs(unittest.TestCase):
             self.assertEqual(found, None if good else ("end",))
             ends[good] = ends.get(good, 0) + 1
         self.assertGreater(min(ends.values()), 10)
+
+    def test_changed_runs(self):
+        faults = {}
+        for seed in range(800):
+            draw = random.Random(seed)
+            machine, starts, bad = some_machine(draw, rules=6)
+            found = outcome(decide, machine, starts, bad)
+            if found is TooMany or found[0] != "run":
+                continue
+            papers = [found[1][:2] + (changed(draw, found[1][2]),) for _ in range(6 if found[1][2] else 1)]
+            for value in [found[1], changed(draw, found[1]), changed(draw, found[1])] + papers:
+                fault = judge_run(machine, starts, bad, value)
+                self.assertEqual(fault, told_run(machine, starts, bad, value), value)
+                word = fault if fault is None else fault[0]
+                faults[word] = faults.get(word, 0) + 1
+        self.assertGreater(min(faults[word] for word in (None, "form", "start", "path", "end")), 10)
+
+
+def told_run(machine, starts, bad, value):
+    """The first fault of a run by the words of [5.5]."""
+    if not isinstance(value, tuple) or len(value) != 3:
+        return ("form",)
+    number, position, path = value
+    if not any(number == k and number is not True and number is not False for k in range(len(starts))):
+        return ("start",)
+    if not right(machine, position) or not lies(machine, starts[number], position):
+        return ("start",)
+    fault = told_path(machine, position, path)
+    if fault is not None:
+        return ("path", fault)
+    last = (machine.rule(path[-1][0])[2], path[-1][1]) if path else position
+    return None if holds_some(machine, last, bad) else ("end",)
 
 
 if __name__ == "__main__":
