@@ -22,9 +22,7 @@ def is_position_limit(machine, value):
 
 
 def _has_state(machine, value):
-    if not isinstance(value, tuple) or len(value) != 2:
-        return False
-    return isinstance(value[0], str) and value[0] in machine.states()
+    return isinstance(value, tuple) and len(value) == 2 and value[0] in machine.states()
 
 
 def check_position(machine, value, number):
@@ -60,12 +58,13 @@ def position_above_one(machine, position, some):
 
 
 def least_of(machine, some, most=None):
-    """The ascending list of those positions that hold no different one of some, each once; TooMany above most."""
+    """The ascending list of those of some positions that hold no different one, each once.
+
+    TooMany where there are more than most of one state."""
     found = []
     for state in machine.states():
         values = [value for name, value in some if name == state]
         found.extend([(state, value) for value in least_ones(machine.kind, values, most)])
-    _check_many(found, most)
     return found
 
 

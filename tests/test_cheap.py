@@ -94,6 +94,15 @@ class Cheapest(unittest.TestCase):
         self.assertEqual(kept(TooMany, cheapest, WIDE, [2], [("s", ("pair", ALL, ALL))], edge, positions=2), {})
         self.assertEqual(cheapest(WIDE, [2], [("s", ("pair", ALL, ALL))], edge, positions=3)[0], 0)
 
+    def test_24_positions_and_25(self):
+        for many in (24, 25):
+            edge, starts = [("s", (k, many - 1 - k)) for k in range(many)], [("s", ("pair", ALL, to(0)))]
+            self.assertEqual(decide(WIDE, starts, edge), ("run", (0, ("s", (many - 1, 0)), ())))
+            if many == 24:
+                self.assertEqual(cheapest(WIDE, [1], starts, edge), (0, (0, ("s", (23, 0)), ())))
+            else:
+                self.assertEqual(kept(TooMany, cheapest, WIDE, [1], starts, edge), {})
+
     def test_the_backs_count_too(self):
         machine = Machine(LANE, ["p", "q"], [("go", "q", ("need", ("a",)), "p"), ("on", "q", ("send", "b"), "q")])
         bad = [("p", ("b", "b")), ("q", ("b", "b", "b"))]

@@ -88,8 +88,11 @@ class Layers(unittest.TestCase):
             starts = [("s", ("pair", to(k), to(many - k))) for k in range(many)]
             if many == 60:
                 self.assertEqual(layers(machine, starts, 1), [starts, [("s", ("pair", to(5), to(5)))]])
+                self.assertEqual(way_to(machine, starts, 1, ("s", (5, 4))), (0, ("s", (0, 0)), (("go", (5, 4)),)))
             else:
                 self.assertEqual(kept(TooMany, layers, machine, starts, 1), {})
+                self.assertEqual(kept(TooMany, way_to, machine, starts, 1, ("s", (5, 4))), {})
+                self.assertEqual(kept(TooMany, way_to, machine, starts, 0, ("s", (99, 99))), {})
 
     def test_forth_may_raise_it(self):
         self.assertEqual(kept(TooMany, layers, TILL, [("s", to(99))], 1), {})
