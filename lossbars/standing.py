@@ -1,7 +1,7 @@
 """Positions and position limits of a machine: their form, their order, what holds what and what lies inside what."""
 
 from lossbars.errors import BadPosition, TooMany
-from lossbars.forms import form_fault, in_order
+from lossbars.forms import amount, form_fault, in_order
 from lossbars.holding import above
 from lossbars.insides import inside
 from lossbars.joints import least_ones
@@ -81,11 +81,24 @@ def is_least_tuple(machine, value):
 def widened(machine, listed, more, most=None):
     """The least list of a least list and of more positions, and those of it that are new; TooMany above most."""
     each = list({position: True for position in more})
-    new = least_of(machine, [one for one in each if not position_above_one(machine, one, listed)], most)
-    kept = [one for one in listed if not position_above_one(machine, one, new)]
-    found = _positions_in_order(machine, kept + new)
+    new = least_of(machine, _holding_none(machine, each, listed), most)
+    found = _positions_in_order(machine, _holding_none(machine, listed, new) + new)
     _check_many(found, most)
     return found, new
+
+
+def _holding_none(machine, some, others):
+    """Those of some positions that hold none of others."""
+    known = {other: True for other in others}
+    sized = [(amount(machine.kind, other[1]), other) for other in others]
+    found = []
+    for one in some:
+        much = amount(machine.kind, one[1])
+        # What is held is less or equal; where there are many, this spares looking at most of them.
+        lesser = [other for size, other in sized if size < much]
+        if one not in known and not position_above_one(machine, one, lesser):
+            found.append(one)
+    return found
 
 
 def _positions_in_order(machine, some):
