@@ -30,20 +30,20 @@ def _layers_to(machine, starts, k, most):
     layer = joined_of(machine, starts, most)
     found = [layer]
     for _ in range(k):
-        layer = _next_layer(machine, layer, most)
+        layer = joined_of(machine, forths_of(machine, layer), most)
         found.append(layer)
     return found
 
 
-def _next_layer(machine, layer, most):
-    came = [
-        (end, limit)
-        for state, told in layer
+def forths_of(machine, limits):
+    """The position limits of what is forth, by each rule, of some position limits."""
+    return [
+        (end, came)
+        for state, limit in limits
         for _, begin, act, end in machine.rules()
         if begin == state
-        for limit in act_forth(machine.kind, act, told)
+        for came in act_forth(machine.kind, act, limit)
     ]
-    return joined_of(machine, came, most)
 
 
 def _step_back(machine, layer, position):

@@ -3,7 +3,7 @@
 from lossbars.errors import BadPosition, TooMany
 from lossbars.forms import amount, form_fault, in_order
 from lossbars.holding import above
-from lossbars.insides import inside
+from lossbars.insides import inside, limits_in_order
 from lossbars.joints import least_ones
 from lossbars.shapes import limit_fault, one_form
 from lossbars.tables import topmost
@@ -63,9 +63,13 @@ def least_of(machine, some, most=None):
     TooMany where there are more than most of one state."""
     found = []
     for state in machine.states():
-        values = [value for name, value in some if name == state]
-        found.extend([(state, value) for value in least_ones(machine.kind, values, most)])
+        found.extend([(state, value) for value in least_ones(machine.kind, of_state(some, state), most)])
     return found
+
+
+def of_state(some, state):
+    """The values of those positions, or the limits of those position limits, that have a state."""
+    return [told for name, told in some if name == state]
 
 
 def is_least_tuple(machine, value):
@@ -82,7 +86,7 @@ def widened(machine, listed, more, most=None):
     """The least list of a least list and of more positions, and those of it that are new; TooMany above most."""
     each = list({position: True for position in more})
     new = least_of(machine, _holding_none(machine, each, listed), most)
-    found = _positions_in_order(machine, _holding_none(machine, listed, new) + new)
+    found = positions_in_order(machine, _holding_none(machine, listed, new) + new)
     _check_many(found, most)
     return found, new
 
@@ -101,11 +105,19 @@ def _holding_none(machine, some, others):
     return found
 
 
-def _positions_in_order(machine, some):
+def positions_in_order(machine, some):
+    """The list of some positions, ascending."""
     found = []
     for state in machine.states():
-        values = [value for name, value in some if name == state]
-        found.extend([(state, value) for value in in_order(machine.kind, values)])
+        found.extend([(state, value) for value in in_order(machine.kind, of_state(some, state))])
+    return found
+
+
+def position_limits_in_order(machine, limits):
+    """The list of some position limits, by their states' places, then ascending."""
+    found = []
+    for state in machine.states():
+        found.extend([(state, limit) for limit in limits_in_order(machine.kind, of_state(limits, state))])
     return found
 
 
@@ -118,8 +130,7 @@ def joined_of(machine, limits, most=None):
     """The list of position limits that tell the same as some, in one form; TooMany above most."""
     found = []
     for state in machine.states():
-        own = [limit for name, limit in limits if name == state]
-        found.extend([(state, limit) for limit in topmost(machine.kind, own)])
+        found.extend([(state, limit) for limit in topmost(machine.kind, of_state(limits, state))])
     _check_many(found, most)
     return found
 
