@@ -37,11 +37,16 @@ def check_positions(machine, some):
         check_position(machine, value, number)
 
 
+def check_position_limit(machine, value, number):
+    """BadPosition, with this number, for what is no position limit."""
+    if not is_position_limit(machine, value):
+        raise BadPosition(number)
+
+
 def check_position_limits(machine, limits):
     """BadPosition for the first of some that is no position limit."""
     for number, value in enumerate(limits):
-        if not is_position_limit(machine, value):
-            raise BadPosition(number)
+        check_position_limit(machine, value, number)
 
 
 def position_above(machine, one, other):

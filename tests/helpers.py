@@ -49,11 +49,14 @@ def untouched(call, *arguments, **caps):
 
 
 def shown(value):
-    """A value as a text, with what each machine in it tells."""
+    """A value as a text, with what each machine and each house in it tells."""
     if isinstance(value, (list, tuple)):
         return f"{value.__class__.__name__}({', '.join(shown(part) for part in value)})"
     if isinstance(value, dict):
         return f"dict({', '.join(shown(pair) for pair in value.items())})"
+    if hasattr(value, "twin"):
+        trails = [(name, value.trail(name), value.mark(name)) for name in value.branches()]
+        return shown((value.kind, value.states(), value.log(), trails, value.here(), value.now()))
     return shown((value.kind, value.states(), value.rules())) if hasattr(value, "rules") else repr(value)
 
 

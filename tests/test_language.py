@@ -15,7 +15,8 @@ BARRED = set("""register mro elements open input law version_info with_traceback
 dir eval exec exit gc getattr globals hasattr help id locals os quit setattr super type vars sys iter next map hash
 filter format round print""".split())
 OWN_DOUBLE = {"__init__", "__eq__", "__len__", "__contains__"}
-LIBRARY = {"math": {"gcd", "lcm", "isqrt", "comb", "perm", "factorial"}}
+LIBRARY = {"math": {"gcd", "lcm", "isqrt", "comb", "perm", "factorial"},
+           "itertools": {"product", "combinations", "permutations"}}
 
 
 def trees():
@@ -105,8 +106,8 @@ class Language(unittest.TestCase):
             self.assertEqual(len(told), len(set(told)), name)
 
     def test_what_is_not_used(self):
-        banned = (ast.GeneratorExp, ast.Yield, ast.YieldFrom, ast.Await, ast.AsyncFunctionDef, ast.Global, ast.Try,
-                  ast.Match, ast.With, ast.Div, ast.Is, ast.IsNot, ast.Starred, ast.Delete)
+        banned = (ast.GeneratorExp, ast.Yield, ast.YieldFrom, ast.Await, ast.AsyncFunctionDef, ast.Global,
+                  ast.ExceptHandler, ast.Match, ast.With, ast.Div, ast.Is, ast.IsNot, ast.Starred, ast.Delete)
         for name, tree in trees().items():
             for node in ast.walk(tree):
                 if isinstance(node, ast.Compare) and isinstance(node.ops[0], (ast.Is, ast.IsNot)):
@@ -116,6 +117,41 @@ class Language(unittest.TestCase):
                 if isinstance(node, ast.Constant):
                     self.assertNotIsInstance(node.value, (float, complex), name)
                     self.assertNotIn("%", str(node.value), name)
+
+    def test_what_stands_in_a_finally(self):
+        for name, tree in trees().items():
+            for node in ast.walk(tree):
+                if isinstance(node, ast.Try):
+                    self.assertEqual((node.handlers, node.orelse), ([], []), name)
+                    for row in node.finalbody:
+                        self.assertTrue(self.is_simple(row), f"{name}: {ast.unparse(row)}")
+
+    def is_simple(self, row):
+        if isinstance(row, ast.If):
+            asked = isinstance(row.test, ast.Compare) and isinstance(row.test.ops[0], (ast.Is, ast.IsNot))
+            return asked and all(self.is_simple(each) for each in row.body + row.orelse)
+        parts = row.targets + [row.value] if isinstance(row, ast.Assign) else [row]
+        return all(isinstance(part, (ast.Name, ast.Attribute)) for part in parts)
+
+    def test_the_library_is_called_at_once(self):
+        wanted = {name for names in LIBRARY.values() for name in names}
+        for name, tree in trees().items():
+            called = {node.func for node in ast.walk(tree) if isinstance(node, ast.Call)}
+            for node in ast.walk(tree):
+                if isinstance(node, ast.Call) and isinstance(node.func, ast.Name) and node.func.id in wanted:
+                    self.assertEqual(node.keywords, [], name)
+                    if node.func.id in LIBRARY["itertools"]:
+                        self.assertTrue(all(isinstance(part, ast.Name) for part in node.args), name)
+                elif isinstance(node, ast.Name) and node.id in wanted:
+                    self.assertIn(node, called, name)
+
+    def test_keys_of_sorting(self):
+        for name, tree in trees().items():
+            for node in ast.walk(tree):
+                if isinstance(node, ast.BinOp) and isinstance(node.op, ast.Pow):
+                    self.fail(f"{name}: a power")
+                if isinstance(node, ast.Call) and isinstance(node.func, ast.Name) and node.func.id in ("sorted", "max", "min"):
+                    self.assertLessEqual({word.arg for word in node.keywords}, {"key", "default"}, name)
 
     def test_names(self):
         for name, tree in trees().items():
