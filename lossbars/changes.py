@@ -22,13 +22,13 @@ def beside(one, other):
     """The machine that does the rules of two machines beside one another."""
     rules = []
     for name, begin, act, end in one.rules():
-        for y in other.states():
-            stands = [beside_state(one, other, x, y) for x in (begin, end)]
-            rules.append((beside_rule(one, other, 0, name, y), stands[0], ("first", act), stands[1]))
+        for state in other.states():
+            ends = (beside_state(one, other, begin, state), beside_state(one, other, end, state))
+            rules.append((beside_rule(one, other, 0, name, state), ends[0], ("first", act), ends[1]))
     for name, begin, act, end in other.rules():
-        for x in one.states():
-            stands = [beside_state(one, other, x, y) for y in (begin, end)]
-            rules.append((beside_rule(one, other, 1, name, x), stands[0], ("second", act), stands[1]))
+        for state in one.states():
+            ends = (beside_state(one, other, state, begin), beside_state(one, other, state, end))
+            rules.append((beside_rule(one, other, 1, name, state), ends[0], ("second", act), ends[1]))
     return Machine(_both_sorts(one, other), _both_states(one, other), rules)
 
 
