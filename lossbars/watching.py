@@ -5,7 +5,7 @@ from lossbars.branches import tried
 from lossbars.rounds import decide
 from lossbars.runs import judge_run
 from lossbars.shields import judge_shield
-from lossbars.standing import check_position_limit, check_position_limits, check_positions, position_limits_in_order
+from lossbars.standing import check_position_limit, check_positions, position_limits_in_order
 
 
 def answer(house, number, start):
@@ -15,9 +15,7 @@ def answer(house, number, start):
 
 def verdict(house, number, start):
     """The answer for a start at a moment, and a paper for it."""
-    machine, bad = house.machine_at(number), house.moment(number)[2]
-    check_position_limits(machine, [start])
-    word, told = decide(machine, [start], bad)
+    word, told = decide(house.machine_at(number), [start], house.moment(number)[2])
     return ("wrong" if word == "run" else "fine", (word, told))
 
 
@@ -42,7 +40,7 @@ def judge_verdict(machine, bad, start, value):
 
 def right_at(house, start, value):
     """The ascending list of the numbers of the moments at which any value is a verdict for a start."""
-    check_position_limits(house, [start])
+    check_position_limit(house, start, 0)
     known, found = {}, []
     for number in range(len(house)):
         rules, _, bad = house.moment(number)

@@ -13,7 +13,7 @@ UP = ("rule", "up", "p", ("add", 1), "q")
 NO_NAMES = ["", "A", "a b", "toolongaa", "a1", None, True, 0, 1, (), ("up",), ["up"], {}, {"up": 1}]
 NO_NUMBERS = [True, False, None, -1, "0", (0,), [0], {}, 10 ** 39]
 NO_DEEDS = [value for value in ODD if not (isinstance(value, tuple) and value and value[0] in ("left", "row"))] + [
-    ("rule",), UP[:4], UP + (1,), list(UP), ("drop",), ("drop", "up", "up"), ["drop", "up"], ("start",), ("start", 1, 2), ("unstart",),
+    (), ("rule",), UP[:4], UP + (1,), list(UP), ("drop",), ("drop", "up", "up"), ["drop", "up"], ("start",), ("start", 1, 2), ("unstart",),
     ("bad", "q", 3), ("unbad",), ("merge", 0), ("undo",), ("rules", 1), (("drop",), "up"), "drop", ("Drop", "up"), (None, "up")]
 
 

@@ -69,6 +69,10 @@ class Ends(unittest.TestCase):
         down = Machine(COUNT, ["s"], [("down", "s", ("take", 1), "s")])
         self.assertEqual(len(ends(down, ("s", 99))[1]), 100)
         self.assertEqual(kept(TooMany, ends, down, ("s", 99), knots=99), {})
+        one_more = Machine(COUNT, ["s", "t"], down.rules() + [("end", "s", ("need", 99), "t")])
+        self.assertEqual((longest(one_more, ("s", 98)), len(within(one_more, ("s", 99), [("s", 0)])[1])), (98, 100))
+        for call, *more in [(ends,), (longest,), (within, [("s", 0), ("t", 0)])]:
+            self.assertEqual(kept(TooMany, call, one_more, ("s", 99), *more), {})
         self.assertEqual(len(ends(down, ("s", 3), knots=4)[1]), 4)
         self.assertEqual(kept(TooMany, ends, down, ("s", 3), knots=3), {})
         self.assertEqual(len(ends(down, ("s", 0), knots=1)[1]), 1)

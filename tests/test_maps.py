@@ -308,6 +308,9 @@ class Back(unittest.TestCase):
         self.assertEqual(len(led_back(("both", nine, AB), ("dropped", (), 0), ["a"] * 54 + ["b"])), 18)
         self.assertEqual(len(led_back(("lane", nine), ("dropped", (1,), 0), [("a", "b"), ("c", "c", "c", "c", "c")])), 9 + 243)
         self.assertEqual(kept(TooMany, led_back, ("lane", nine), ("dropped", (1,), 0), [("a",) * 6]), {})
+        for side, sort in ((0, ("both", nine, COUNT)), (1, ("both", COUNT, nine))):
+            self.assertEqual(len(led_back(sort, ("dropped", (), side), [3] * 55)), 9)
+            self.assertEqual(kept(TooMany, led_back, sort, ("dropped", (), side), [3] * 56), {})
         # Those that are no more needed count, too; numbers and letters that stay have one choice.
         self.assertEqual(led_back(("both", COUNT, lane), ("counted", (2,)), [(5, 0)] * 500), [(5, ())])
         self.assertEqual(kept(TooMany, led_back, ("both", COUNT, lane), ("counted", (2,)), [(5, 0)] * 501), {})
