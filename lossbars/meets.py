@@ -1,7 +1,7 @@
 """What two limits have in common."""
 
 from lossbars.forms import side_sort
-from lossbars.insides import is_once, limits_in_order, limits_of, within
+from lossbars.insides import is_once, limits_in_order, limits_of, within, within_one
 from lossbars.shapes import check_limit
 from lossbars.sorts import check_sort
 from lossbars.tables import PieceTable, topmost
@@ -35,7 +35,14 @@ def met(sort, one, two):
 
 def met_lists(sort, ones, twos):
     """The list of limits of what lies inside one of each of two lists."""
-    return topmost(sort, [limit for one in ones for two in twos for limit in met(sort, one, two)])
+    firsts = [one for one in ones if within_one(sort, one, twos)]
+    seconds = [two for two in twos if within_one(sort, two, ones)]
+    # What lies within the other list already is there as it is; only the other ones have to be met.
+    found = firsts + seconds
+    for one in ones:
+        if one not in firsts:
+            found.extend([limit for two in twos if two not in seconds for limit in met(sort, one, two)])
+    return topmost(sort, found)
 
 
 def _rows_met(sort, one, two):
