@@ -1,5 +1,6 @@
 """What two limits have in common."""
 
+from lossbars.crossings import Crossing
 from lossbars.forms import side_sort
 from lossbars.insides import is_once, limits_in_order, limits_of, within, within_one
 from lossbars.shapes import check_limit
@@ -27,7 +28,7 @@ def met(sort, one, two):
     if sort[0] == "either" and one[0] == two[0]:
         return [(one[0], limit) for limit in met(side_sort(sort, one[0]), one[1], two[1])]
     if sort[0] == "lane":
-        return _rows_met(sort, one, two)
+        return rows_met(sort, one, two)
     if sort[0] == "heap":
         return _bags_met(sort, one, two)
     return []
@@ -45,44 +46,21 @@ def met_lists(sort, ones, twos):
     return topmost(sort, found)
 
 
-def _rows_met(sort, one, two):
-    """Cell k of the row for i is what the rows behind piece i and behind piece k have; the rows come from the end."""
+def rows_met(sort, one, two, most=None):
+    """As met, for rows; where more than most limits come, perhaps TooMany."""
     table = PieceTable(sort)
     pieces, others = table.coded(one), table.coded(two)
-    below = [[()] for _ in range(len(others) + 1)]
-    for i in reversed(range(len(pieces))):
-        row = [[()]]
-        for k in reversed(range(len(others))):
-            row = [_cell(sort[1], table, pieces[i:], others[k:], (below[k], row[0], below[k + 1]))] + row
-        below = row
-    return limits_in_order(sort, [table.told(code) for code in below[0]])
+    heads = {(i, k): _heads(sort[1], table, i, k) for i in sorted(set(pieces)) for k in sorted(set(others))}
+    return limits_in_order(sort, [table.told(code) for code in Crossing(table, pieces, others, heads).codes(most)])
 
 
-def _cell(inner, table, pieces, others, rests):
-    """What two coded rows have, by what they have without the first piece of the one, of the other, of both."""
-    if table.code_lies(pieces, others):
-        return [pieces]
-    if table.code_lies(others, pieces):
-        return [others]
-    less, fewer, _ = rests
-    one, two = table.piece(pieces[0]), table.piece(others[0])
+def _heads(inner, table, number, other):
+    """The numbers of the pieces that two pieces have in common."""
+    one, two = table.piece(number), table.piece(other)
     shared = met_lists(inner, limits_of(one), limits_of(two))
     if is_once(one) or is_once(two):
-        heads = [table.number_of(("once", limit)) for limit in shared]
-        behind = _behind_once(one, two, rests)
-    else:
-        heads = [table.number_of(("often", tuple(shared)))] if shared else []
-        behind = less + fewer
-    found = [table.put_ahead(head, row) for head in heads for row in behind]
-    return table.top_codes(found + less + fewer)
-
-
-def _behind_once(one, two, rests):
-    """What may stand behind one element that two pieces take: an often is there still, a once is not."""
-    less, fewer, least = rests
-    if not is_once(one):
-        return fewer
-    return least if is_once(two) else less
+        return [table.number_of(("once", limit)) for limit in shared]
+    return [table.number_of(("often", tuple(shared)))] if shared else []
 
 
 def _bags_met(sort, one, two):

@@ -5,7 +5,7 @@ from lossbars.forms import check_value, check_values, lowest, side_sort
 from lossbars.gaps import least_missed
 from lossbars.insides import inside
 from lossbars.leasts import common
-from lossbars.meets import met_lists
+from lossbars.meets import met_lists, rows_met
 from lossbars.shapes import bag_of, check_limits, limit_fault, often_of, row_of, whole
 from lossbars.sorts import check_sort
 from lossbars.tables import topmost
@@ -44,7 +44,7 @@ def _cut(sort, limits, others, most):
     """What lies inside one of limits and one of others; TooMany where one brings more than most, or all do."""
     found = []
     for limit in limits:
-        shared = met_lists(sort, [limit], others)
+        shared = _shared(sort, limit, others, most)
         if len(shared) > most:
             raise TooMany()
         found.extend(shared)
@@ -56,6 +56,13 @@ def _cut(sort, limits, others, most):
         if limit_fault(sort, limit) is not None:
             raise TooMany()
     return found
+
+
+def _shared(sort, limit, others, most):
+    """What lies inside a limit and one of others; where this is more than most limits, perhaps TooMany."""
+    if sort[0] == "lane" and len(others) == 1:
+        return rows_met(sort, limit, others[0], most)
+    return met_lists(sort, [limit], others)
 
 
 def not_above(sort, v):
